@@ -1,0 +1,1 @@
+"""Sparewatts: a lone machine that meets all due times at the least cost."""

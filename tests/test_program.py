@@ -1,0 +1,154 @@
+"""Point 2 (what holds of the whole program), the interface, and the subset of the language."""
+
+import ast
+import copy
+import pathlib
+import unittest
+
+from sparewatts import jobs, plans, ratios
+from sparewatts.errors import BadText
+
+PACKAGE = pathlib.Path(__file__).resolve().parent.parent / "sparewatts"
+LIBRARY = {"math": ("gcd", "lcm", "isqrt", "comb", "perm", "factorial")}
+
+# What has landed of the interface: the names that each file defines itself, and their parameters.
+INTERFACE = {
+    "errors.py": {"WattsError": None, "BadText": None, "BadJournal": None, "Refused": None, "TooFast": None},
+    "ratios.py": {
+        "ratio": ["top", "bottom"],
+        "plus": ["a", "b"],
+        "minus": ["a", "b"],
+        "times": ["a", "b"],
+        "over": ["a", "b"],
+        "less": ["a", "b"],
+        "total": ["ratios"],
+    },
+    "jobs.py": {"write_jobs": ["jobs"], "read_jobs": ["text"]},
+    "plans.py": {
+        "fault": ["jobs", "plan"],
+        "tidy": ["plan"],
+        "speed_at": ["plan", "time"],
+        "gaps": ["plan", "begin", "end"],
+    },
+}
+
+
+def sources():
+    """The files of the package, each as (name, text, tree)."""
+    paths = sorted(path for path in PACKAGE.rglob("*") if "__pycache__" not in path.parts)
+    texts = [(path.name, path.read_bytes().decode("ascii")) for path in paths]
+    return [(name, text, ast.parse(text)) for name, text in texts]
+
+
+def definitions(tree):
+    """The functions and classes of a file, by their names."""
+    return {node.name: node for node in tree.body if isinstance(node, (ast.FunctionDef, ast.ClassDef))}
+
+
+class ArgumentsTest(unittest.TestCase):
+    """Callers pass tuples; the lists here would show a change that tuples hide."""
+
+    def assert_kept(self, function, *arguments):
+        before = copy.deepcopy(arguments)
+        function(*arguments)
+        self.assertEqual(arguments, before, function.__name__)
+
+    def test_no_function_modifies_its_arguments(self):
+        job_list = [("a", 0, 9, 4), ("b", 0, 9, 1)]
+        plan = [((0, 1), (1, 1), "a", (2, 1)), ((1, 1), (2, 1), "a", (2, 1)), ((3, 1), (4, 1), "b", (1, 1))]
+        self.assert_kept(ratios.total, [(1, 2), (1, 2)])
+        self.assert_kept(jobs.write_jobs, job_list)
+        self.assert_kept(plans.fault, job_list, plan)
+        self.assert_kept(plans.tidy, plan)
+        self.assert_kept(plans.speed_at, plan, (1, 1))
+        self.assert_kept(plans.gaps, plan, 0, 9)
+
+
+class NumberingTest(unittest.TestCase):
+    def test_indexes_start_at_0_and_lines_at_1(self):
+        outside = ((0, 1), (2, 1), "a", (1, 1))
+        self.assertEqual(plans.fault((("a", 0, 1, 2),), (outside,)), ("window", 0))
+        with self.assertRaises(BadText) as caught:
+            jobs.read_jobs("wrong\n")
+        self.assertEqual(caught.exception.line, 1)
+
+    def test_written_texts_have_only_the_characters_of_texts(self):
+        text = jobs.write_jobs((("abcdefgh", 0, 10000, 10000), ("z", 1, 2, 3)))
+        for character in text:
+            self.assertTrue(character == "\n" or " " <= character <= "~")
+        self.assertNotIn("%", text)
+
+
+class InterfaceTest(unittest.TestCase):
+    def test_each_name_is_defined_in_its_own_file_with_its_parameters(self):
+        trees = {name: tree for name, _, tree in sources()}
+        for name, listed in INTERFACE.items():
+            found = definitions(trees[name])
+            for word, parameters in listed.items():
+                self.assertIn(word, found, name)
+                if parameters is None:
+                    self.assertIsInstance(found[word], ast.ClassDef)
+                else:
+                    self.assertEqual([part.arg for part in found[word].args.args], parameters, word)
+
+
+class LanguageTest(unittest.TestCase):
+    """The rules of the subset that are quickly checked: files, sizes, characters, imports, signs."""
+
+    BARRED = (ast.Div, ast.Global, ast.AsyncFunctionDef, ast.Import)
+
+    def test_the_package_holds_python_files_only(self):
+        names = [path.name for path in PACKAGE.rglob("*") if "__pycache__" not in path.parts]
+        self.assertIn("__init__.py", names)
+        for name in names:
+            self.assertRegex(name, r"^[a-z0-9_]+\.py$")
+
+    def test_sizes(self):
+        for name, text, tree in sources():
+            rows = text.split("\n")
+            self.assertLessEqual(len(rows), 399, name)
+            self.assertLessEqual(max(len(row) for row in rows), 120, name)
+            for node in ast.walk(tree):
+                if isinstance(node, ast.FunctionDef):
+                    self.assertLessEqual(node.end_lineno - node.lineno + 1, 40, node.name)
+
+    def test_characters(self):
+        for name, text, _ in sources():
+            for character in text:
+                self.assertTrue(character == "\n" or " " <= character <= "~", name)
+
+    def test_strings_and_numbers(self):
+        for name, _, tree in sources():
+            for node in ast.walk(tree):
+                if isinstance(node, ast.Constant):
+                    self.assertNotIsInstance(node.value, (float, complex), name)
+                    if isinstance(node.value, str):
+                        self.assertNotIn("%", node.value, name)
+
+    def test_imports(self):
+        defined = {name: set(definitions(tree)) | assigned(tree) for name, _, tree in sources()}
+        for name, _, tree in sources():
+            for node in ast.walk(tree):
+                if not isinstance(node, ast.ImportFrom):
+                    continue
+                words = {part.name for part in node.names}
+                if node.module in LIBRARY:
+                    self.assertLessEqual(words, set(LIBRARY[node.module]), name)
+                else:
+                    package, _, module = node.module.partition(".")
+                    self.assertEqual((package, node.level), ("sparewatts", 0), name)
+                    self.assertLessEqual(words, defined[module + ".py"], name)
+
+    def test_barred_statements_and_signs(self):
+        for name, _, tree in sources():
+            for node in ast.walk(tree):
+                self.assertNotIsInstance(node, self.BARRED, name)
+
+
+def assigned(tree):
+    """The names that a file assigns at module level."""
+    return {node.targets[0].id for node in tree.body if isinstance(node, ast.Assign)}
+
+
+if __name__ == "__main__":
+    unittest.main()
