@@ -1,14 +1,16 @@
 """Point 2 (what holds of the whole program), the interface, and the subset of the language."""
 
 import ast
+import builtins
 import copy
 import pathlib
 import unittest
 
-from sparewatts import jobs, plans, ratios
+from sparewatts import jobs, judge, planner, plans, prices, ratios, rounds
 from sparewatts.errors import BadText
 
 PACKAGE = pathlib.Path(__file__).resolve().parent.parent / "sparewatts"
+BARRED_NAMES = ("register", "mro", "elements", "law", "attrgetter", "methodcaller", "gc", "os", "sys", "importlib")
 LIBRARY = {"math": ("gcd", "lcm", "isqrt", "comb", "perm", "factorial")}
 
 # What has landed of the interface: the names that each file defines itself, and their parameters.
@@ -30,6 +32,10 @@ INTERFACE = {
         "speed_at": ["plan", "time"],
         "gaps": ["plan", "begin", "end"],
     },
+    "prices.py": {"price_at": ["price", "speed"], "cost": ["plan", "price", "begin", "end"]},
+    "rounds.py": {"rounds": ["jobs"], "speeds": ["jobs"], "peak": ["jobs"]},
+    "planner.py": {"best_plan": ["jobs"]},
+    "judge.py": {"is_least": ["jobs", "plan"], "better": ["jobs", "plan"]},
 }
 
 
@@ -62,6 +68,14 @@ class ArgumentsTest(unittest.TestCase):
         self.assert_kept(plans.tidy, plan)
         self.assert_kept(plans.speed_at, plan, (1, 1))
         self.assert_kept(plans.gaps, plan, 0, 9)
+        self.assert_kept(prices.price_at, ["table", [(0, 1), (2, 3), (4, 9)]], (3, 1))
+        self.assert_kept(prices.cost, plan, ["table", [(0, 1), (2, 3), (4, 9)]], 0, 9)
+        self.assert_kept(rounds.rounds, job_list)
+        self.assert_kept(rounds.speeds, job_list)
+        self.assert_kept(rounds.peak, job_list)
+        self.assert_kept(planner.best_plan, job_list)
+        self.assert_kept(judge.is_least, job_list, plan)
+        self.assert_kept(judge.better, job_list, plan)
 
 
 class NumberingTest(unittest.TestCase):
@@ -139,6 +153,25 @@ class LanguageTest(unittest.TestCase):
                     self.assertEqual((package, node.level), ("sparewatts", 0), name)
                     self.assertLessEqual(words, defined[module + ".py"], name)
 
+    def test_names(self):
+        for name, _, tree in sources():
+            imported = {part.name for node in tree.body if isinstance(node, ast.ImportFrom) for part in node.names}
+            self.assertFalse(imported & named(tree), name)
+            for word in named(tree):
+                self.assertFalse(hasattr(builtins, word), f"{name}: {word}")
+                self.assertNotIn(word, BARRED_NAMES, name)
+
+    def test_no_two_files_import_from_each_other(self):
+        modules = {}
+        for name, _, tree in sources():
+            words = [node.module for node in ast.walk(tree) if isinstance(node, ast.ImportFrom)]
+            modules[name] = {word.partition(".")[2] + ".py" for word in words if word.startswith("sparewatts.")}
+        while modules:
+            loose = [name for name in modules if not modules[name] & set(modules)]
+            self.assertNotEqual(loose, [], f"a ring of imports in {sorted(modules)}")
+            for name in loose:
+                del modules[name]
+
     def test_barred_statements_and_signs(self):
         for name, _, tree in sources():
             for node in ast.walk(tree):
@@ -148,6 +181,19 @@ class LanguageTest(unittest.TestCase):
 def assigned(tree):
     """The names that a file assigns at module level."""
     return {node.targets[0].id for node in tree.body if isinstance(node, ast.Assign)}
+
+
+def named(tree):
+    """The names that a file gives to its functions, parameters and variables."""
+    found = assigned(tree)
+    for node in ast.walk(tree):
+        if isinstance(node, ast.FunctionDef):
+            found.add(node.name)
+        elif isinstance(node, ast.arg):
+            found.add(node.arg)
+        elif isinstance(node, ast.Name) and isinstance(node.ctx, ast.Store):
+            found.add(node.id)
+    return {word for word in found if not word.startswith("__")}
 
 
 if __name__ == "__main__":
