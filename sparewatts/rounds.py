@@ -83,6 +83,9 @@ def rounds_of(jobs):
     while open_jobs != []:
         windows = free_windows(open_jobs, free)
         speed, a, b = densest(windows, free)
+        if speed == ZERO:
+            # Only jobs without work, which no job list within its limits has, would never close.
+            return found
         names = tuple([window[2][0] for window in windows if lies_in(window, a, b)])
         found.append((speed, names, tuple(free_between(free, a, b))))
         open_jobs = [window[2] for window in windows if not lies_in(window, a, b)]
@@ -101,7 +104,7 @@ def speeds(jobs):
     for speed, names, pairs in rounds(jobs):
         for name in names:
             by_name[name] = speed
-    return tuple([by_name[job[0]] for job in jobs])
+    return tuple([by_name.get(job[0], ZERO) for job in jobs])
 
 
 def peak(jobs):

@@ -65,6 +65,11 @@ class PriceAtTest(unittest.TestCase):
         self.assert_prices(price, [((999999, 2), (500000, 1)), ((1999999, 2), (500000, 1))])
         self.assert_prices(price, [((1000001, 1), (2000000, 1))])
 
+    def test_somewhat_beyond_the_limits(self):
+        seven = ("table", tuple((at, at * at) for at in range(7)))
+        self.assert_prices(seven, [((11, 2), (61, 2)), ((7, 1), (47, 1))])
+        self.assert_prices(("table", ((0, 4),)), [((0, 1), (4, 1)), ((3, 1), (4, 1))])
+
     def test_many_tables_by_their_lines(self):
         chance = random.Random(10)
         for price in convex_tables(1, 60):

@@ -159,6 +159,14 @@ class RoundsTest(unittest.TestCase):
         for jobs in job_lists(23, 40, most=12, span=24, work=9):
             self.assertEqual(rounds(jobs), plain_rounds(jobs), jobs)
 
+    def test_somewhat_beyond_the_limits(self):
+        jobs = tuple(("abcdefghijklmn"[at], at, at + 20000, 10001 + at) for at in range(14))
+        names = tuple(job[0] for job in jobs)
+        self.assertEqual(rounds(jobs)[0][1], names)
+        idle = (("a", 0, 4, 0), ("b", 1, 2, 3))
+        self.assertEqual(rounds(idle), [((3, 1), ("b",), ((1, 2),))])
+        self.assertEqual(speeds(idle), ((0, 1), (3, 1)))
+
     def test_the_times_belong_to_one_round_each(self):
         for jobs in job_lists(24, 60, most=12, span=20):
             taken = []
