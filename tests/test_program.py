@@ -6,16 +6,17 @@ import copy
 import pathlib
 import unittest
 
-from sparewatts import jobs, judge, planner, plans, prices, ratios, rounds
+from sparewatts import account, book, jobs, judge, levels, planner, plans, prices, ratios, rounds
 from sparewatts.errors import BadText
 
 PACKAGE = pathlib.Path(__file__).resolve().parent.parent / "sparewatts"
 BARRED_NAMES = ("register", "mro", "elements", "law", "attrgetter", "methodcaller", "gc", "os", "sys", "importlib")
 LIBRARY = {"math": ("gcd", "lcm", "isqrt", "comb", "perm", "factorial")}
 
-# What has landed of the interface: the names that each file defines itself, and their parameters.
+# What has landed of the interface: the names that each file defines itself, with the parameters of a
+# function, and the methods that a class defines itself, with theirs.
 INTERFACE = {
-    "errors.py": {"WattsError": None, "BadText": None, "BadJournal": None, "Refused": None, "TooFast": None},
+    "errors.py": {"WattsError": {}, "BadText": {}, "BadJournal": {}, "Refused": {}, "TooFast": {}},
     "ratios.py": {
         "ratio": ["top", "bottom"],
         "plus": ["a", "b"],
@@ -36,6 +37,26 @@ INTERFACE = {
     "rounds.py": {"rounds": ["jobs"], "speeds": ["jobs"], "peak": ["jobs"]},
     "planner.py": {"best_plan": ["jobs"]},
     "judge.py": {"is_least": ["jobs", "plan"], "better": ["jobs", "plan"]},
+    "book.py": {"Book": {"__init__": [], "put": ["job"], "drop": ["name"], "jobs": [], "plan": [], "worked": []}},
+    "levels.py": {
+        "useful": ["levels"],
+        "leveled": ["plan", "levels"],
+        "level_cost": ["plan", "levels", "begin", "end"],
+    },
+    "runner.py": {
+        "Runner": {
+            "__init__": ["cap"],
+            "advance": ["time"],
+            "offer": ["name", "due", "work"],
+            "time": [],
+            "taken": [],
+            "left": [],
+            "done": [],
+            "course": [],
+            "lines": [],
+        }
+    },
+    "account.py": {"account": ["taken", "done", "rival"]},
 }
 
 
@@ -47,8 +68,12 @@ def sources():
 
 
 def definitions(tree):
-    """The functions and classes of a file, by their names."""
+    """The functions and classes of a file, or the methods of a class, by their names."""
     return {node.name: node for node in tree.body if isinstance(node, (ast.FunctionDef, ast.ClassDef))}
+
+
+def parameters_of(function):
+    return [part.arg for part in function.args.args]
 
 
 class ArgumentsTest(unittest.TestCase):
@@ -76,6 +101,11 @@ class ArgumentsTest(unittest.TestCase):
         self.assert_kept(planner.best_plan, job_list)
         self.assert_kept(judge.is_least, job_list, plan)
         self.assert_kept(judge.better, job_list, plan)
+        self.assert_kept(levels.useful, [(0, 0), (1, 3), (2, 4)])
+        self.assert_kept(levels.leveled, plan, [(0, 0), (3, 4)])
+        self.assert_kept(levels.level_cost, plan, [(0, 0), (1, 3), (2, 4)], 0, 9)
+        self.assert_kept(account.account, job_list, plan, plan)
+        self.assert_kept(book.Book().put, ["a", 0, 9, 4])
 
 
 class NumberingTest(unittest.TestCase):
@@ -100,10 +130,17 @@ class InterfaceTest(unittest.TestCase):
             found = definitions(trees[name])
             for word, parameters in listed.items():
                 self.assertIn(word, found, name)
-                if parameters is None:
-                    self.assertIsInstance(found[word], ast.ClassDef)
+                if isinstance(parameters, list):
+                    self.assertEqual(parameters_of(found[word]), parameters, word)
                 else:
-                    self.assertEqual([part.arg for part in found[word].args.args], parameters, word)
+                    self.assert_methods(found[word], parameters)
+
+    def assert_methods(self, node, listed):
+        self.assertIsInstance(node, ast.ClassDef)
+        found = definitions(node)
+        for word, parameters in listed.items():
+            self.assertIn(word, found, node.name)
+            self.assertEqual(parameters_of(found[word]), ["self", *parameters], word)
 
 
 class LanguageTest(unittest.TestCase):
