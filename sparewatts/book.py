@@ -13,7 +13,6 @@ def groups(jobs):
         # The jobs come in turn, so a job that touches none of the part touches no job in front of it.
         if found == [] or comes >= reach:
             found.append([])
-            reach = due
         found[-1].append(name)
         reach = max(reach, due)
     return found

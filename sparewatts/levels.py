@@ -7,9 +7,7 @@ from sparewatts.stretches import stretches
 
 
 def is_useful(levels, index):
-    """Return True if the level is the first or the last one, or cheaper than every mixture."""
-    if index == 0 or index == len(levels) - 1:
-        return True
+    """Return True if the level costs less than every mixture; of the first and the last one there is none."""
     speed, price = levels[index]
     for slow, slow_price in levels[:index]:
         for fast, fast_price in levels[index + 1 :]:
