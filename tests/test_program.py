@@ -6,14 +6,16 @@ import copy
 import pathlib
 import unittest
 
-from sparewatts import account, book, jobs, judge, levels, planner, plans, prices, ratios, rounds
+from sparewatts import account, book, jobs, journal, judge, levels, planner, plans, plantexts, prices, ratios, rounds
+from sparewatts import sleep, tariffs
 from sparewatts.errors import BadText
+from sparewatts.runner import Runner
 
 PACKAGE = pathlib.Path(__file__).resolve().parent.parent / "sparewatts"
 BARRED_NAMES = ("register", "mro", "elements", "law", "attrgetter", "methodcaller", "gc", "os", "sys", "importlib")
 LIBRARY = {"math": ("gcd", "lcm", "isqrt", "comb", "perm", "factorial")}
 
-# What has landed of the interface: the names that each file defines itself, with the parameters of a
+# The interface: the names that each file defines itself, with the parameters of a
 # function, and the methods that a class defines itself, with theirs.
 INTERFACE = {
     "errors.py": {"WattsError": {}, "BadText": {}, "BadJournal": {}, "Refused": {}, "TooFast": {}},
@@ -57,6 +59,10 @@ INTERFACE = {
         }
     },
     "account.py": {"account": ["taken", "done", "rival"]},
+    "tariffs.py": {"tariff_cost": ["plan", "tariff", "begin", "end"], "tariff_plan": ["jobs", "tariff"]},
+    "sleep.py": {"asleep": ["depths", "length"], "dozing": ["depths"], "doze_cost": ["depths", "length"]},
+    "journal.py": {"replay": ["lines"]},
+    "plantexts.py": {"write_plan": ["plan"], "read_plan": ["text"]},
 }
 
 
@@ -106,6 +112,13 @@ class ArgumentsTest(unittest.TestCase):
         self.assert_kept(levels.level_cost, plan, [(0, 0), (1, 3), (2, 4)], 0, 9)
         self.assert_kept(account.account, job_list, plan, plan)
         self.assert_kept(book.Book().put, ["a", 0, 9, 4])
+        self.assert_kept(tariffs.tariff_cost, plan, [(0, 1), (2, 3)], 0, 9)
+        self.assert_kept(tariffs.tariff_plan, job_list, [(0, 1), (2, 3)])
+        self.assert_kept(sleep.asleep, [(3, 0), (1, 2), (0, 9)], (5, 1))
+        self.assert_kept(sleep.dozing, [(3, 0), (1, 2), (0, 9)])
+        self.assert_kept(sleep.doze_cost, [(3, 0), (1, 2), (0, 9)], (5, 1))
+        self.assert_kept(journal.replay, ["runner", "offer a 9 4", "advance 3", "adv"])
+        self.assert_kept(plantexts.write_plan, plan)
 
 
 class NumberingTest(unittest.TestCase):
@@ -118,7 +131,11 @@ class NumberingTest(unittest.TestCase):
 
     def test_written_texts_have_only_the_characters_of_texts(self):
         text = jobs.write_jobs((("abcdefgh", 0, 10000, 10000), ("z", 1, 2, 3)))
-        for character in text:
+        text += plantexts.write_plan((((-1, 2), (1, 3), "z", (7, 1)),))
+        runner = Runner(999999999)
+        runner.offer("abcdefgh", 10000, 10000)
+        runner.advance(10000)
+        for character in text + "".join(runner.lines()):
             self.assertTrue(character == "\n" or " " <= character <= "~")
         self.assertNotIn("%", text)
 
