@@ -20,7 +20,7 @@ def pieces_from(plan, time):
     return tuple([(greater(start, begin), end, name, speed) for start, end, name, speed in rest])
 
 
-def overload(jobs, time, cap):
+def too_much_by(jobs, time, cap):
     """Return the least time by which the jobs, which come now, have too much work for the cap, or None."""
     # The time left grows and the load does so at due times only, so the least time is a due time.
     for due in sorted({job[2] for job in jobs}):
@@ -63,7 +63,7 @@ class Runner:
         late = None
         if self._cap is not None:
             # The course has a speed above the cap exactly if there is such a time.
-            late = overload(waiting, self._time, self._cap)
+            late = too_much_by(waiting, self._time, self._cap)
         if late is None:
             self._taken.append((name, self._time, due, work))
             self._left[name] = ratio(work)
